@@ -1,0 +1,1 @@
+"""Hangrings: turns of space, and hangers that lock."""
