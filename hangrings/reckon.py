@@ -36,3 +36,15 @@ def common_multiple(numbers):
 
 def tops_over(bottom, fractions):
     return tuple([fraction[0] * (bottom // fraction[1]) for fraction in fractions])
+
+
+def whole_root(number):
+    if number == 0:
+        return 0
+    # From a guess no less than the root each step goes down, until it is there.
+    guess = 1 << (number.bit_length() + 1) // 2
+    better = (guess + number // guess) // 2
+    while better < guess:
+        guess = better
+        better = (guess + number // guess) // 2
+    return guess
