@@ -1,7 +1,7 @@
 """Axes of turns, how far turns lead, and turns about a way by a setting."""
 
 from hangrings.fours import plain, size
-from hangrings.reckon import negated, reduced
+from hangrings.reckon import cross_product, first_filled, negated, reduced, sum_of_products
 
 # A turn that comes back has an angle whose cosine is 0, a half or 1, above or
 # below 0, if it is a fraction at all; so its rest is one of these.
@@ -35,15 +35,28 @@ def about(way, setting):
 
 
 def are_along(one, other):
-    return (
-        one[0] * other[1] == one[1] * other[0]
-        and one[0] * other[2] == one[2] * other[0]
-        and one[1] * other[2] == one[2] * other[1]
-    )
+    return cross_product(one, other) == (0, 0, 0)
 
 
 def setting_about(way, four):
     if not are_along(way, four[1:]):
         return None
-    place = [number for number in (0, 1, 2) if way[number] != 0][0]
+    place = first_filled(way)
     return plain_setting((four[place + 1], four[0] * way[place]))
+
+
+# The only setting by which a turn about the way leads one row of whole numbers,
+# that isn't along the way, to the other one; or None.
+def setting_between(way, one, other):
+    if sum_of_products(way, one) != sum_of_products(way, other):
+        return None
+    if sum_of_products(one, one) != sum_of_products(other, other):
+        return None
+    both = tuple([left + right for left, right in zip(one, other)])
+    # The way from one to the other is k over l times this one, which is
+    # upright to the way and to the bisector of both.
+    across = cross_product(way, both)
+    if across == (0, 0, 0):
+        return (1, 0)
+    place = first_filled(across)
+    return plain_setting((other[place] - one[place], across[place]))

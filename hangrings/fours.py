@@ -2,6 +2,8 @@
 
 from hangrings.reckon import common_multiple, negated, reduced, sum_of_products, tops_over
 
+NOTHING = (1, 0, 0, 0)
+
 
 def plain(four):
     lowest = reduced(four)

@@ -3,7 +3,7 @@
 from hangrings.axes import about, plain_setting
 from hangrings.errors import NoHanger
 from hangrings.fours import plain, product, then
-from hangrings.reckon import sum_of_products, whole_root
+from hangrings.reckon import exact_root, sum_of_products
 
 WAYS = {"x": (1, 0, 0), "y": (0, 1, 0), "z": (0, 0, 1)}
 PLACES = {"x": 1, "y": 2, "z": 3}
@@ -97,8 +97,8 @@ def settings_of(hanger, four):
     number = length * sum_of_products(parts[1], parts[1])
     if number == 0:
         return locked(hanger, parts)
-    root = whole_root(number)
-    if root * root != number:
+    root = exact_root(number)
+    if root is None:
         return ("none", number)
     both = sorted([settings_by(hanger, parts, (root, length)), settings_by(hanger, parts, (-root, length))])
     return ("set", both[0], both[1])

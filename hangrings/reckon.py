@@ -27,6 +27,18 @@ def sum_of_products(one, other):
     return sum([left * right for left, right in zip(one, other)])
 
 
+def cross_product(one, other):
+    return (
+        one[1] * other[2] - one[2] * other[1],
+        one[2] * other[0] - one[0] * other[2],
+        one[0] * other[1] - one[1] * other[0],
+    )
+
+
+def first_filled(numbers):
+    return [place for place, number in enumerate(numbers) if number != 0][0]
+
+
 def common_multiple(numbers):
     multiple = 1
     for number in numbers:
@@ -48,3 +60,27 @@ def whole_root(number):
         guess = better
         better = (guess + number // guess) // 2
     return guess
+
+
+def exact_root(number):
+    root = whole_root(number)
+    return root if root * root == number else None
+
+
+# What a number that has no divisor in common with the modulus is to be
+# multiplied by to leave 1. Beside each of Euclid's remainders stands the
+# multiple of the number that leaves it.
+def inverse(number, modulus):
+    left = modulus
+    right = number % modulus
+    left_multiple = 0
+    right_multiple = 1
+    while right != 0:
+        quotient = left // right
+        remainder = left - quotient * right
+        multiple = left_multiple - quotient * right_multiple
+        left = right
+        left_multiple = right_multiple
+        right = remainder
+        right_multiple = multiple
+    return left_multiple % modulus

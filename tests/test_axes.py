@@ -6,7 +6,7 @@ from math import gcd
 import helpers
 from helpers import BIG, NOTHING, as_pair, is_fraction, is_plain_four, is_plain_setting, is_row, times
 
-from hangrings.axes import about, axis, comes_back, rest, setting_about
+from hangrings.axes import about, axis, comes_back, rest, setting_about, setting_between
 from hangrings.fours import back, plain, then, turned
 
 FEW = helpers.some_fours(21, 40, 9)
@@ -172,6 +172,26 @@ class SettingAboutTest(unittest.TestCase):
         setting = setting_about(way, four)
         self.assertGreater(abs(setting[0]), 10 ** 700)
         self.assertEqual(about(way, setting), four)
+
+
+class SettingBetweenTest(unittest.TestCase):
+    def test_just_the_setting_that_leads_there(self):
+        settings = helpers.small_plain_settings(3)
+        for way in helpers.small_ways(2)[::5]:
+            for row in [(1, 2, 4), (-3, 5, 1), (0, 0, 7), (4, 0, -1)]:
+                if gcd(*[way[i] * row[j] - way[j] * row[i] for i in range(3) for j in range(i)]) == 0:
+                    continue
+                for setting in settings:
+                    there = turned(about(way, setting), tuple((number, 1) for number in row))
+                    bottom = there[0][1] * there[1][1] * there[2][1]
+                    other = tuple(top * bottom // below for top, below in there)
+                    self.assertEqual(setting_between(way, times(bottom, row), other), setting)
+
+    def test_none_where_none_leads_there(self):
+        self.assertIsNone(setting_between((0, 0, 1), (3, 4, 0), (5, 0, 1)))
+        self.assertIsNone(setting_between((0, 0, 1), (3, 4, 0), (4, 4, 0)))
+        self.assertIsNone(setting_between((0, 0, 1), (3, 4, 2), (3, 4, -2)))
+        self.assertIsNone(setting_between((1, 1, 0), (1, 0, 0), (0, 2, 0)))
 
 
 if __name__ == "__main__":

@@ -68,6 +68,17 @@ def top_names(tree):
     return found
 
 
+def lasting_names(tree):
+    """What another file may draw: defs, classes, and values that can't be changed."""
+    found = []
+    for row in tree.body:
+        if isinstance(row, (ast.FunctionDef, ast.ClassDef)):
+            found.append(row.name)
+        elif isinstance(row, ast.Assign) and not isinstance(row.value, (ast.List, ast.Dict)):
+            found.append(row.targets[0].id)
+    return found
+
+
 class LanguageTest(unittest.TestCase):
     def each_node(self):
         for name, tree in trees().items():
@@ -104,8 +115,7 @@ class LanguageTest(unittest.TestCase):
                     self.assertRegex(node.module, r"^hangrings\.[a-z_]+$")
                     source = node.module.split(".")[1]
                     drawn[name].append(source)
-                    defined = [row.name for row in trees()[source].body
-                               if isinstance(row, (ast.FunctionDef, ast.ClassDef))]
+                    defined = lasting_names(trees()[source])
                     for alias in node.names:
                         self.assertIsNone(alias.asname, name)
                         self.assertIn(alias.name, defined, name)

@@ -2,7 +2,7 @@ import math
 import random
 import unittest
 
-from hangrings.reckon import common_divisor, common_multiple, reduced, whole_root
+from hangrings.reckon import common_divisor, common_multiple, exact_root, inverse, reduced, whole_root
 
 
 class ReckonTest(unittest.TestCase):
@@ -28,6 +28,19 @@ class ReckonTest(unittest.TestCase):
             for shift in [50, 51, 52, 53, 64, 1023, 1024]:
                 for near in [-1, 0, 1]:
                     self.assertEqual(whole_root(2 ** shift + near), math.isqrt(2 ** shift + near))
+
+    def test_exact_root(self):
+        squares = {number * number: number for number in range(50)}
+        for number in range(2401):
+            self.assertEqual(exact_root(number), squares.get(number))
+
+    def test_inverse(self):
+        for modulus in range(1, 40):
+            for number in range(-40, 80):
+                if math.gcd(number, modulus) == 1:
+                    told = inverse(number, modulus)
+                    self.assertIn(told, range(modulus))
+                    self.assertEqual((told * number - 1) % modulus, 0)
 
 
 if __name__ == "__main__":
