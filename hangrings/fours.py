@@ -1,6 +1,6 @@
 """Fours of whole numbers, and the turns of space that they tell."""
 
-from hangrings.reckon import common_multiple, negated, reduced, sum_of_products, tops_over
+from hangrings.reckon import levelled, lowered, negated, reduced, sum_of_products
 
 NOTHING = (1, 0, 0, 0)
 
@@ -50,8 +50,10 @@ def whole_table(four):
     )
 
 
+def level_turned(four, level):
+    tops = tuple([sum_of_products(row, level[0]) for row in whole_table(four)])
+    return (tops, level[1] * size(four))
+
+
 def turned(four, point):
-    bottom = common_multiple([fraction[1] for fraction in point])
-    tops = tops_over(bottom, point)
-    whole_bottom = bottom * size(four)
-    return tuple([reduced((sum_of_products(row, tops), whole_bottom)) for row in whole_table(four)])
+    return lowered(level_turned(four, levelled(point)))

@@ -1,7 +1,7 @@
 """Ways that are led to ways by turns."""
 
 from hangrings.axes import about, are_along, setting_between
-from hangrings.fours import plain, size, then, whole_table
+from hangrings.fours import level_turned, plain, size, then
 from hangrings.reckon import cross_product, exact_root, sum_of_products
 
 
@@ -11,7 +11,7 @@ def size_of(way):
 
 # The size of the four times what the way is turned to, so that it stays whole.
 def turned_way(four, way):
-    return tuple([sum_of_products(row, way) for row in whole_table(four)])
+    return level_turned(four, (way, 1))[0]
 
 
 def leads(one, other, four):

@@ -46,8 +46,24 @@ def common_multiple(numbers):
     return multiple
 
 
-def tops_over(bottom, fractions):
-    return tuple([fraction[0] * (bottom // fraction[1]) for fraction in fractions])
+# Fractions as their tops over one bottom, not always in lowest terms: to find
+# these takes long for great numbers, and is best done once, at the end.
+def levelled(fractions):
+    bottom = common_multiple([fraction[1] for fraction in fractions])
+    return (tuple([fraction[0] * (bottom // fraction[1]) for fraction in fractions]), bottom)
+
+
+def lowered(level):
+    return tuple([reduced((top, level[1])) for top in level[0]])
+
+
+def levels_added(one, other):
+    tops = tuple([left * other[1] + right * one[1] for left, right in zip(one[0], other[0])])
+    return (tops, one[1] * other[1])
+
+
+def is_less(one, other):
+    return one[0] * other[1] < other[0] * one[1]
 
 
 def whole_root(number):

@@ -2,25 +2,21 @@
 
 from hangrings.errors import NoTurn
 from hangrings.fours import plain, size, whole_table
-from hangrings.reckon import common_multiple, reduced, tops_over
+from hangrings.reckon import levelled, lowered
 
 
 def table_of(four):
     bottom = size(four)
-    return tuple([divided_row(row, bottom) for row in whole_table(four)])
-
-
-def divided_row(row, bottom):
-    return tuple([reduced((top, bottom)) for top in row])
+    return tuple([lowered((row, bottom)) for row in whole_table(four)])
 
 
 # Of a turn's table the rows here are multiples of its four, by w, x, y and z.
 # So the first row that isn't all noughts tells the only four that the table
 # can be of. There is one: the numbers in which bottom stands add up to 4 of it.
 def only_four(table):
-    fractions = table[0] + table[1] + table[2]
-    bottom = common_multiple([fraction[1] for fraction in fractions])
-    tops = tops_over(bottom, fractions)
+    level = levelled(table[0] + table[1] + table[2])
+    tops = level[0]
+    bottom = level[1]
     wx = tops[7] - tops[5]
     wy = tops[2] - tops[6]
     wz = tops[3] - tops[1]

@@ -160,6 +160,16 @@ class LanguageTest(unittest.TestCase):
                 for row in node.body:
                     self.assertIsInstance(row, (ast.FunctionDef, ast.Pass), where)
 
+    def test_no_name_is_a_method_here_and_a_value_there(self):
+        classes = [node for where, node in self.each_node() if isinstance(node, ast.ClassDef)]
+        methods = [row.name for node in classes for row in node.body if isinstance(row, ast.FunctionDef)]
+        values = {node.attr for where, node in self.each_node()
+                  if isinstance(node, ast.Attribute) and isinstance(node.ctx, ast.Store)}
+        self.assertEqual(sorted(values & (set(methods) | METHODS)), [])
+        for node in classes:
+            names = [row.name for row in node.body if isinstance(row, ast.FunctionDef)]
+            self.assertEqual(len(names), len(set(names)), node.name)
+
     def test_statements(self):
         for where, node in self.each_node():
             if isinstance(node, ast.Assign):
