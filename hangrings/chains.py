@@ -21,6 +21,11 @@ def tip_of(joints):
     return tip
 
 
+# Where the tip is, seen from the stand behind this joint and the place ahead of it.
+def arm_from(joints, joint):
+    return levels_added(levelled(joints[joint][1]), tip_of(joints[joint + 1:]))
+
+
 # The point as it is seen from the stand and the place behind these joints.
 def seen_behind(joints, point):
     seen = levelled(point)
@@ -86,8 +91,7 @@ class Chain(Deeds):
     def reach(self, joint, point):
         self.refuse_no_joint(joint)
         joints = self.latest()
-        here = levels_added(levelled(joints[joint][1]), tip_of(joints[joint + 1:]))
-        return reach_about(joints[joint][0], here, seen_behind(joints[:joint], point))
+        return reach_about(joints[joint][0], arm_from(joints, joint), seen_behind(joints[:joint], point))
 
     def lead(self, joint, point):
         told = self.reach(joint, point)

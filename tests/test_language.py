@@ -127,6 +127,20 @@ class LanguageTest(unittest.TestCase):
     def test_init_binds_nothing(self):
         self.assertEqual(top_names(trees()["__init__"]), [])
 
+    def check_plain_value(self, value, rows_above, where):
+        """No list or dict within another, and no names but of functions defined above."""
+        functions = [row.name for row in rows_above if isinstance(row, ast.FunctionDef)]
+        within = value.values if isinstance(value, ast.Dict) else []
+        for entry in within:
+            if isinstance(entry, ast.Name):
+                self.assertIn(entry.id, functions, where)
+            else:
+                self.assertNotIsInstance(ast.literal_eval(entry), (list, dict), where)
+        if isinstance(value, ast.Dict):
+            self.assertEqual([key for key in value.keys if not isinstance(ast.literal_eval(key), (str, tuple))], [])
+        else:
+            ast.literal_eval(value)
+
     def test_tops(self):
         for name, tree in trees().items():
             for place, row in enumerate(tree.body):
@@ -136,7 +150,7 @@ class LanguageTest(unittest.TestCase):
                 else:
                     self.assertIsInstance(row, (ast.ImportFrom, ast.FunctionDef, ast.ClassDef, ast.Assign), name)
                 if isinstance(row, ast.Assign):
-                    ast.literal_eval(row.value)
+                    self.check_plain_value(row.value, tree.body[:place], name)
             names = top_names(tree)
             self.assertEqual(len(names), len(set(names)), name)
 
