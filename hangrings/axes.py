@@ -1,7 +1,7 @@
 """Axes of turns, how far turns lead, and turns about a way by a setting."""
 
 from hangrings.fours import plain, size
-from hangrings.reckon import cross_product, first_filled, negated, reduced, sum_of_products
+from hangrings.reckon import cross_product, first_filled, negated, reduced, row_sum, sum_of_products
 
 # A turn that comes back has an angle whose cosine is 0, a half or 1, above or
 # below 0, if it is a fraction at all; so its rest is one of these.
@@ -52,7 +52,7 @@ def setting_between(way, one, other):
         return None
     if sum_of_products(one, one) != sum_of_products(other, other):
         return None
-    both = tuple([left + right for left, right in zip(one, other)])
+    both = row_sum(one, other)
     # The way from one to the other is k over l times this one, which is
     # upright to the way and to the bisector of both.
     across = cross_product(way, both)

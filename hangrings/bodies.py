@@ -23,6 +23,11 @@ class Body(Deeds):
     def __init__(self):
         Deeds.__init__(self, (NOTHING, ()))
 
+    # In the place of all deeds: the body stands so from the beginning.
+    def begin(self, stand, marks):
+        self.done = [(stand, tuple(marks))]
+        self.gone = []
+
     def stand(self):
         return self.latest()[0]
 

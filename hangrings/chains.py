@@ -4,7 +4,7 @@ from hangrings.axes import about, are_along, plain_setting, setting_between
 from hangrings.deeds import Deeds
 from hangrings.errors import NoJoint, NoReach, TooMany
 from hangrings.fours import NOTHING, back, level_turned, then
-from hangrings.reckon import levelled, levels_added, lowered, negated
+from hangrings.reckon import level_negated, levelled, levels_added, lowered
 
 MOST_JOINTS = 6
 
@@ -30,8 +30,7 @@ def arm_from(joints, joint):
 def seen_behind(joints, point):
     seen = levelled(point)
     for joint in joints:
-        arm = levelled(joint[1])
-        seen = levels_added(level_turned(back(turn_of(joint)), seen), (negated(arm[0]), arm[1]))
+        seen = levels_added(level_turned(back(turn_of(joint)), seen), level_negated(levelled(joint[1])))
     return seen
 
 

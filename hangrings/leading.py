@@ -1,8 +1,8 @@
 """Ways that are led to ways by turns."""
 
 from hangrings.axes import about, are_along, setting_between
-from hangrings.fours import level_turned, plain, size, then
-from hangrings.reckon import cross_product, exact_root, sum_of_products
+from hangrings.fours import NOTHING, level_turned, plain, size, then
+from hangrings.reckon import cross_product, exact_root, row_difference, row_sum, sum_of_products
 
 
 def size_of(way):
@@ -58,3 +58,23 @@ def led_both(first, second, third, fourth):
     if setting is None:
         return ("none", "between")
     return ("only", then(four, about(third, setting)))
+
+
+# What a turn adds to a row is upright to its axis: so where two rows are added
+# to in ways that don't lie along each other, these tell the axis. Of three rows
+# that don't lie in one plane there are two such, or nothing is added at all.
+def turn_of_three(rows, others):
+    added = [row_difference(other, row) for row, other in zip(rows, others)]
+    both = [row_sum(row, other) for row, other in zip(rows, others)]
+    for pair in ((0, 1), (0, 2), (1, 2)):
+        across = cross_product(added[pair[0]], added[pair[1]])
+        if across != (0, 0, 0):
+            return plain((sum_of_products(added[pair[0]], both[pair[1]]),) + across)
+    return NOTHING
+
+
+# The only turn that leads two rows of whole numbers, not along each other, to
+# two others, which are as long and as far apart.
+def turn_between(first, second, third, fourth):
+    rows = (first, second, cross_product(first, second))
+    return turn_of_three(rows, (third, fourth, cross_product(third, fourth)))

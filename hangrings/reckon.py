@@ -23,6 +23,14 @@ def negated(numbers):
     return tuple([-number for number in numbers])
 
 
+def row_sum(one, other):
+    return tuple([left + right for left, right in zip(one, other)])
+
+
+def row_difference(one, other):
+    return tuple([left - right for left, right in zip(one, other)])
+
+
 def sum_of_products(one, other):
     return sum([left * right for left, right in zip(one, other)])
 
@@ -60,6 +68,20 @@ def lowered(level):
 def levels_added(one, other):
     tops = tuple([left * other[1] + right * one[1] for left, right in zip(one[0], other[0])])
     return (tops, one[1] * other[1])
+
+
+def level_negated(level):
+    return (negated(level[0]), level[1])
+
+
+# Points as rows of their tops over one bottom for all of them.
+def levelled_points(points):
+    fractions = []
+    for point in points:
+        fractions.extend(point)
+    level = levelled(fractions)
+    rows = [level[0][place:place + 3] for place in range(0, len(fractions), 3)]
+    return (rows, level[1])
 
 
 def is_less(one, other):
